@@ -1,0 +1,1 @@
+"""Things on a shelf given new names all at once."""
