@@ -13,7 +13,8 @@ def is_name(thing):
     return all(["a" <= sign <= "z" for sign in thing])
 
 
-def _check_name(thing):
+def check_name(thing):
+    """None; refused with NoName, where the thing is no name."""
     if not is_name(thing):
         raise NoName(f"{thing!r} is no name")
 
@@ -25,9 +26,9 @@ class Plan:
         leads = {}
         taken = set()
         for old, new in pairs:
-            _check_name(old)
+            check_name(old)
             if new is not None:
-                _check_name(new)
+                check_name(new)
             if old in leads:
                 raise Twice(old)
             if new in taken:

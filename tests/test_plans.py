@@ -5,9 +5,7 @@ import unittest
 
 from newnames.errors import NoName, Twice
 from newnames.plans import Plan
-from tests.helpers import Case, raw_plans
-
-BAD_TEXTS = ("", "A", "aB", "a1", "a b", " a", "a ", "a\n", "\ta", "-", "abcdefghi", "None", "~")
+from tests.helpers import BAD_TEXTS, Case, raw_plans
 
 
 class Refusals(Case):
